@@ -1,0 +1,260 @@
+"""The rules of LANGUAGE.md, as far as a look at the code of the package can tell."""
+
+import ast
+import builtins
+import pathlib
+import re
+import unittest
+
+PACKAGE = pathlib.Path(__file__).resolve().parent.parent / "soleinstances"
+FILES = sorted(PACKAGE.rglob("*.py"))
+
+LIBRARY = {
+    "heapq": "heappush heappop heapify heapreplace heappushpop",
+    "math": "gcd lcm isqrt comb perm factorial",
+    "itertools": "product combinations permutations chain accumulate pairwise islice zip_longest",
+    "collections": "defaultdict",
+    "__future__": "annotations",
+}
+BUILTINS = """len range enumerate zip min max sum abs sorted reversed int str bool bytes list tuple dict set frozenset
+    isinstance ord repr any all divmod pow getattr hasattr setattr iter next map Exception ValueError TypeError KeyError
+    IndexError LookupError ZeroDivisionError ArithmeticError OverflowError RuntimeError NotImplementedError
+    AttributeError StopIteration NotImplemented property staticmethod classmethod super""".split()
+METHODS = """append clear copy count endswith extend find get index insert isalnum isalpha isdigit islower isspace
+    isupper items join keys ljust lower lstrip partition pop remove replace reverse rfind rjust rpartition rsplit rstrip
+    setdefault split splitlines startswith strip update upper values zfill bit_length title capitalize swapcase casefold
+    center expandtabs removeprefix removesuffix rindex isascii isdecimal isnumeric istitle isidentifier isprintable
+    translate encode decode hex format sort add discard""".split()
+DOUBLE = """init eq repr str len enter exit call iter lt le gt ge ne neg pos invert abs bool contains getitem setitem
+    add sub mul floordiv mod pow and or xor lshift rshift radd rsub rmul rfloordiv rmod rand ror rxor rlshift rrshift
+    iadd isub imul ifloordiv imod ipow iand ior ixor ilshift irshift""".split()
+BARRED = """register mro elements open input law version_info with_traceback add_note""".split()
+BARRED_NAMES = """attrgetter breakpoint builtins compile copyright credits delattr dir eval exec exit gc globals help id
+    importlib license locals methodcaller os quit type vars sys""".split()
+BARRED_WORDS = """typing typing_extensions enum Enum IntEnum StrEnum Flag IntFlag Generic Protocol ABC ABCMeta namedtuple
+    NamedTuple TypedDict TYPE_CHECKING abstractmethod""".split()
+STATEMENTS = (ast.Import, ast.Global, ast.AsyncFunctionDef, ast.AsyncFor, ast.AsyncWith, ast.Await, ast.TryStar)
+
+
+def tree_of(file):
+    return ast.parse(file.read_text(encoding="utf-8"))
+
+
+def walk_all(kind):
+    """All nodes of a kind in the package, each with the name of its file."""
+    return [(file.name, node) for file in FILES for node in ast.walk(tree_of(file)) if isinstance(node, kind)]
+
+
+def functions():
+    return walk_all(ast.FunctionDef)
+
+
+def module_of(file):
+    parts = file.relative_to(PACKAGE.parent).with_suffix("").parts
+    return ".".join(parts[:-1] if parts[-1] == "__init__" else parts)
+
+
+def defined_in(tree):
+    """The names that a file binds at module level by itself."""
+    found = [node.name for node in tree.body if isinstance(node, (ast.FunctionDef, ast.ClassDef))]
+    for node in tree.body:
+        if isinstance(node, ast.Assign):
+            found.extend([target.id for target in node.targets])
+    return found
+
+
+def imports_of(tree):
+    return [node for node in ast.walk(tree) if isinstance(node, ast.ImportFrom)]
+
+
+def bound_names():
+    """The names of all variables, parameters, functions and classes, each with the name of its file."""
+    found = [(file, node.id) for file, node in walk_all(ast.Name) if not isinstance(node.ctx, ast.Load)]
+    found.extend([(file, node.arg) for file, node in walk_all(ast.arg)])
+    found.extend([(file, node.name) for file, node in walk_all(ast.ClassDef)])
+    for file in FILES:
+        methods = [node for owner in ast.walk(tree_of(file)) if isinstance(owner, ast.ClassDef) for node in owner.body]
+        lines = [node.lineno for node in methods]
+        plain = [node for node in ast.walk(tree_of(file)) if isinstance(node, ast.FunctionDef)]
+        found.extend([(file.name, node.name) for node in plain if node.lineno not in lines])
+    return found
+
+
+class FilesTest(unittest.TestCase):
+
+    def test_l1_l14_names_of_files(self):
+        self.assertTrue(FILES)
+        self.assertLessEqual(len(FILES), 100)
+        for path in PACKAGE.rglob("*"):
+            if "__pycache__" in path.parts:
+                continue
+            if path.is_dir():
+                self.assertTrue((path / "__init__.py").exists(), path)
+            else:
+                self.assertRegex(path.name, r"\A([a-z][a-z0-9_]*|__init__|__main__)\.py\Z")
+                self.assertFalse(path.with_suffix("").is_dir(), path)
+            self.assertNotRegex(path.stem, r"\A(law_.*|test|tests|testing|test_.*|site|conftest)\Z")
+            self.assertNotIn(path.stem, dir(builtins))
+            self.assertNotIn(path.stem, BARRED + BARRED_NAMES + BARRED_WORDS + list(LIBRARY))
+
+    def test_l10_sizes(self):
+        for file in FILES:
+            lines = file.read_text(encoding="utf-8").split("\n")
+            self.assertLessEqual(len(lines), 399, file)
+            self.assertLessEqual(max([len(line) for line in lines]), 120, file)
+        for file, node in functions():
+            self.assertLessEqual(node.end_lineno - node.lineno + 1, 40, (file, node.name))
+
+    def test_l10_l14_characters(self):
+        for file in FILES:
+            self.assertEqual(re.sub(rb"[ -~\n]", b"", file.read_bytes()), b"", file)
+
+    def test_l3_module_level(self):
+        kinds = (ast.ImportFrom, ast.FunctionDef, ast.ClassDef, ast.Assign)
+        for file in FILES:
+            body = tree_of(file).body
+            self.assertTrue(ast.get_docstring(tree_of(file)), file)
+            for node in body[1:]:
+                self.assertIsInstance(node, kinds, (file, node.lineno))
+                if isinstance(node, ast.Assign):
+                    self.assertEqual([type(target) for target in node.targets], [ast.Name])
+
+
+class ImportsTest(unittest.TestCase):
+
+    def test_l2_l16_forms(self):
+        modules = {module_of(file): defined_in(tree_of(file)) for file in FILES}
+        for file in FILES:
+            for node in imports_of(tree_of(file)):
+                self.assertEqual(node.level, 0, file)
+                for alias in node.names:
+                    known = modules.get(node.module, LIBRARY.get(node.module, "").split())
+                    self.assertIn(alias.name, known, (file, node.module))
+
+    def test_l2_imports_stand_at_the_top(self):
+        for file in FILES:
+            tree = tree_of(file)
+            at_top = [at for at, node in enumerate(tree.body) if isinstance(node, ast.ImportFrom)]
+            self.assertEqual(at_top, list(range(1, 1 + len(at_top))), file)
+            self.assertEqual(len(imports_of(tree)), len(at_top), file)
+
+    def test_l16_no_circles(self):
+        uses = {module_of(file): [node.module for node in imports_of(tree_of(file))] for file in FILES}
+        waiting = {module: [use for use in used if use in uses] for module, used in uses.items()}
+        while waiting:
+            free = [module for module, used in waiting.items() if not [use for use in used if use in waiting]]
+            self.assertTrue(free, waiting)
+            waiting = {module: used for module, used in waiting.items() if module not in free}
+
+    def test_l15_one_binding(self):
+        for file in FILES:
+            names = defined_in(tree_of(file))
+            for node in imports_of(tree_of(file)):
+                names.extend([alias.asname or alias.name for alias in node.names])
+            self.assertEqual(sorted(names), sorted(set(names)), file)
+
+    def test_l15_no_other_meaning_for_imports_and_classes(self):
+        for file in FILES:
+            tree = tree_of(file)
+            fixed = [alias.name for node in imports_of(tree) for alias in node.names]
+            fixed.extend([node.name for node in tree.body if isinstance(node, ast.ClassDef)])
+            for node in ast.walk(tree):
+                name = node.arg if isinstance(node, ast.arg) else getattr(node, "id", None)
+                stored = isinstance(node, ast.arg) or isinstance(getattr(node, "ctx", None), ast.Store)
+                self.assertFalse(stored and name in fixed, (file, name))
+
+
+class CodeTest(unittest.TestCase):
+
+    def test_l4_l5_decorators(self):
+        for file, node in functions():
+            found = [ast.unparse(decorator) for decorator in node.decorator_list]
+            setter = f"{node.name}.setter"
+            self.assertIn(found, [[], ["property"], ["staticmethod"], ["classmethod"], [setter]], (file, node.name))
+        for file, node in walk_all(ast.ClassDef):
+            self.assertEqual(node.decorator_list + node.keywords, [], (file, node.name))
+
+    def test_l5_double_underscores(self):
+        allowed = [f"__{name}__" for name in DOUBLE]
+        for file, node in functions():
+            if node.name.startswith("__"):
+                self.assertIn(node.name, allowed, file)
+        for file, node in walk_all(ast.ClassDef):
+            methods = [part.name for part in node.body if isinstance(part, ast.FunctionDef)]
+            if "__getitem__" in methods:
+                self.assertIn("__iter__", methods, (file, node.name))
+
+    def test_l6_statements(self):
+        self.assertEqual(walk_all(STATEMENTS), [])
+        for file, node in walk_all(ast.ExceptHandler):
+            self.assertIsNotNone(node.type, file)
+
+    def test_l7_numbers_and_signs(self):
+        self.assertEqual(walk_all((ast.Div, ast.MatMult)), [])
+        for file, node in walk_all(ast.Constant):
+            self.assertIn(type(node.value), [int, str, bytes, bool, type(None)], (file, node.lineno))
+
+    def test_l8_builtins(self):
+        for file in FILES:
+            allowed = BUILTINS + (["print"] if file.name == "__main__.py" else [])
+            for node in ast.walk(tree_of(file)):
+                if isinstance(node, ast.Name) and node.id in dir(builtins):
+                    self.assertIn(node.id, allowed, (file, node.lineno))
+
+    def test_l12_l15_l17_names(self):
+        for file, name in bound_names():
+            self.assertNotIn(name, dir(builtins), file)
+            self.assertNotIn(name, BARRED + BARRED_NAMES, file)
+            self.assertRegex(name, r"\A(_|_?[A-Za-z][A-Za-z0-9_]*)\Z", file)
+        for file, node in walk_all(ast.Attribute):
+            self.assertNotIn(node.attr, BARRED, file)
+        for file, node in functions():
+            self.assertNotIn(node.name, BARRED + BARRED_NAMES, file)
+
+    def test_l17_words(self):
+        for file, node in walk_all((ast.Name, ast.Attribute, ast.arg, ast.keyword, ast.alias)):
+            for name in [getattr(node, part, None) for part in ["id", "attr", "arg", "name"]]:
+                self.assertNotIn(name, [*BARRED_WORDS, "type"], file)
+        for file in FILES:
+            text = file.read_text(encoding="utf-8")
+            self.assertNotRegex(text, r"dataclass|overload|contextmanager|_wall|\(type\)|Meta|metaclass=", file)
+            self.assertNotRegex(text, r"\b(" + "|".join(BARRED_WORDS) + r")\b", file)
+
+    def test_l20_is(self):
+        for file, node in walk_all(ast.Compare):
+            for sign, right in zip(node.ops, node.comparators):
+                if isinstance(sign, (ast.Is, ast.IsNot)):
+                    fine = isinstance(right, ast.Constant) and right.value in (None, True, False)
+                    self.assertTrue(fine or isinstance(right, ast.Name), (file, node.lineno))
+
+    def test_l25_methods(self):
+        own = [node.name for _, node in functions()]
+        for file, node in walk_all(ast.Call):
+            if isinstance(node.func, ast.Attribute):
+                self.assertIn(node.func.attr, METHODS + own, (file, node.lineno))
+
+    def test_l26_attributes(self):
+        barred = """items keys values pop update append clear extend insert remove reverse setdefault sort args encode
+            decode hex fromhex format""".split()
+        for file, node in walk_all(ast.Attribute):
+            if isinstance(node.ctx, ast.Store):
+                self.assertNotIn(node.attr, barred, (file, node.lineno))
+
+    def test_l27_strings(self):
+        for file, node in walk_all(ast.Constant):
+            if isinstance(node.value, str):
+                self.assertNotIn(chr(37), node.value, (file, node.lineno))
+                self.assertFalse(node.value.endswith(("._", ".__")), (file, node.lineno))
+
+    def test_l28_len_and_str(self):
+        for file, node in functions():
+            if node.name in ("__len__", "__str__", "__repr__"):
+                self.assertIsInstance(node.body[-1], ast.Return, (file, node.name))
+            if node.name == "__len__":
+                for part in ast.walk(node):
+                    if isinstance(part, ast.Return):
+                        self.assertRegex(ast.unparse(part), r"\Areturn (len\(|[0-9]+\Z)", file)
+
+
+if __name__ == "__main__":
+    unittest.main()
