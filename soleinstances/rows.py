@@ -22,14 +22,14 @@ def read_row(text):
     """The row of the term with this text, or None for any value that is no text of a term."""
     if not isinstance(text, str):
         return None
-    row = _guessed_row(text)
+    row = guessed_row(text)
     # What is read is a guess, right only if it is a row at all and would be written as this very text.
-    if not _is_term(row) or write_row(row) != text:
+    if not is_row(row, 1) or write_row(row) != text:
         return None
     return row
 
 
-def _guessed_row(text):
+def guessed_row(text):
     """The only row that may have this text. Signs that cannot stand where they do are taken for names."""
     names = []
     parts = []
@@ -54,9 +54,9 @@ def _words(text):
     return [word for word in spread.split(" ") if word != ""]
 
 
-def _is_term(row):
-    """Whether a row is that of just one term, with names that may have their parts."""
-    missing = 1
+def is_row(row, terms):
+    """Whether a row is that of just so many terms, with names that may have their parts."""
+    missing = terms
     for name, many in row:
         if missing == 0 or not may_have(name, many):
             return False
@@ -65,7 +65,7 @@ def _is_term(row):
 
 
 def write_row(row):
-    """The text of the term with this row."""
+    """The text of the term with this row, or of anything that is written like a term."""
     pieces = []
     missing = []
     for name, many in row:
@@ -84,7 +84,7 @@ def write_row(row):
 
 
 def depth_of(row):
-    """The depth of the term with this row."""
+    """The depth of the term with this row, or the greatest one of several terms."""
     deepest = 0
     missing = []
     for _, many in row:
@@ -132,6 +132,11 @@ def join_rows(rows):
 def variables_of(row):
     """The list of the variables of a row, each once, in the order in which they first stand."""
     return list({name: True for name, _ in row if is_name(name)})
+
+
+def constructors_of(row):
+    """The list of tuples (name, number of parts) of the constructors of a row, each once, in the same order."""
+    return list({entry: True for entry in row if is_constructor(entry[0])})
 
 
 def put_in_row(row, rows):

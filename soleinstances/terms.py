@@ -3,8 +3,9 @@
 from soleinstances.errors import InvalidTerm, NoPart
 from soleinstances.indexes import is_index
 from soleinstances.joining import common_row, fitting_rows
-from soleinstances.names import is_constructor, is_name
-from soleinstances.rows import depth_of, join_rows, may_have, put_in_row, read_row, split_row, variables_of, write_row
+from soleinstances.names import is_name
+from soleinstances.rows import constructors_of, depth_of, join_rows, may_have, put_in_row, read_row, split_row
+from soleinstances.rows import variables_of, write_row
 
 
 class Term:
@@ -56,7 +57,7 @@ class Term:
 
     def constructors(self):
         """The list of tuples (name, number of parts) of the constructors, each once, in the same order."""
-        return list({entry: True for entry in self.row if is_constructor(entry[0])})
+        return constructors_of(self.row)
 
     def put(self, terms):
         """The term in which the variables that are keys of the dict terms are exchanged for its values."""

@@ -256,5 +256,209 @@ class CodeTest(unittest.TestCase):
                         self.assertRegex(ast.unparse(part), r"\Areturn (len\(|[0-9]+\Z)", file)
 
 
+def parents_of(tree):
+    """The dict from the nodes of a tree to those that hold them."""
+    return {child: node for node in ast.walk(tree) for child in ast.iter_child_nodes(node)}
+
+
+def with_parents(kind):
+    """All nodes of a kind in the package, each with what holds it, and the name of its file."""
+    found = []
+    for file in FILES:
+        tree = tree_of(file)
+        parents = parents_of(tree)
+        found.extend([(file.name, node, parents[node]) for node in ast.walk(tree) if isinstance(node, kind)])
+    return found
+
+
+def name_of(node):
+    """The name by which something is called, or None."""
+    return getattr(node, "id", getattr(node, "attr", None))
+
+
+def classes():
+    return walk_all(ast.ClassDef)
+
+
+def methods_of(node):
+    return [part for part in node.body if isinstance(part, ast.FunctionDef)]
+
+
+class ClassesTest(unittest.TestCase):
+
+    def test_l5_statements_of_classes(self):
+        for file, node in classes():
+            self.assertTrue(ast.get_docstring(node), (file, node.name))
+            for part in node.body[1:]:
+                self.assertIsInstance(part, ast.FunctionDef, (file, node.name))
+
+    def test_l5_forms_of_iter(self):
+        for file, node in classes():
+            for part in methods_of(node):
+                if part.name == "__iter__":
+                    self.assertEqual(len(part.body), 1, file)
+                    self.assertRegex(ast.unparse(part.body[0]), r"\Araise TypeError\('[^']*'\)\Z", file)
+
+    def test_l5_operators_are_used_by_their_signs(self):
+        for file, node in walk_all(ast.Attribute):
+            fine = not node.attr.startswith("__") or node.attr in ("__init__", "__class__", "__name__")
+            self.assertTrue(fine, (file, node.lineno))
+
+    def test_l18_no_name_is_a_method_and_an_attribute(self):
+        methods = [part.name for _, node in classes() for part in methods_of(node)]
+        for file, node in walk_all(ast.Attribute):
+            if isinstance(node.ctx, ast.Store):
+                self.assertNotIn(node.attr, methods, (file, node.lineno))
+
+    def test_l18_attributes_that_are_read_are_assigned(self):
+        stored = [node.attr for _, node in walk_all(ast.Attribute) if isinstance(node.ctx, ast.Store)]
+        own = [node.name for _, node in functions()]
+        for file, node, parent in with_parents(ast.Attribute):
+            if not (isinstance(parent, ast.Call) and parent.func is node) and node.attr != "setter":
+                self.assertIn(node.attr, stored + own, (file, node.lineno))
+
+    def test_l18_no_method_twice(self):
+        for file, node in classes():
+            plain = [part.name for part in methods_of(node) if "setter" not in ast.unparse(part).split("\n")[0]]
+            self.assertEqual(sorted(plain), sorted(set(plain)), (file, node.name))
+
+    def test_l15_l18_classes_are_not_values(self):
+        names = [node.name for _, node in classes()]
+        for file, node, parent in with_parents(ast.Name):
+            if node.id in names and isinstance(node.ctx, ast.Load):
+                kinds = (ast.Call, ast.ClassDef, ast.ExceptHandler, ast.Raise, ast.Tuple, ast.Attribute)
+                self.assertIsInstance(parent, kinds, (file, node.lineno))
+                if isinstance(parent, ast.Call) and parent.func is not node:
+                    self.assertEqual(name_of(parent.func), "isinstance", (file, node.lineno))
+
+    def test_l28_init_returns_nothing(self):
+        for file, node in functions():
+            if node.name == "__init__":
+                self.assertEqual([part for part in ast.walk(node) if isinstance(part, ast.Return)], [], file)
+
+
+class GeneratorsTest(unittest.TestCase):
+
+    def names(self):
+        found = []
+        for _, node in functions():
+            if [part for part in ast.walk(node) if isinstance(part, (ast.Yield, ast.YieldFrom))]:
+                found.append(node.name)
+        return found
+
+    def test_l23_names(self):
+        found = self.names()
+        self.assertTrue(found)
+        self.assertEqual(sorted(found), sorted(set(found)))
+        everything = [node.name for _, node in functions()]
+        for name in found:
+            self.assertEqual(everything.count(name), 1)
+            self.assertNotIn(name, METHODS)
+            self.assertFalse(name.startswith("__"))
+        for file, node in walk_all(ast.Name):
+            if not isinstance(node.ctx, ast.Load):
+                self.assertNotIn(node.id, found, (file, node.lineno))
+
+    def test_l23_iterated_at_once(self):
+        found = self.names()
+        for file, node, parent in with_parents(ast.Call):
+            if name_of(node.func) in found:
+                at_once = isinstance(parent, (ast.For, ast.comprehension)) and parent.iter is node
+                at_once = at_once or isinstance(parent, ast.YieldFrom)
+                at_once = at_once or isinstance(parent, ast.Call) and name_of(parent.func) in ("list", "tuple", "dict")
+                self.assertTrue(at_once, (file, node.lineno))
+                for argument in node.args:
+                    self.assertIsInstance(argument, (ast.Name, ast.Attribute, ast.Constant), (file, node.lineno))
+
+    def test_l23_yields_are_statements(self):
+        for file, _, parent in with_parents((ast.Yield, ast.YieldFrom)):
+            self.assertIsInstance(parent, ast.Expr, file)
+
+    def test_l7_lists_where_a_class_has_an_equal(self):
+        self.assertEqual(walk_all(ast.GeneratorExp), [])
+
+    def test_l23_not_stored(self):
+        for file, node, parent in with_parents(ast.Call):
+            if name_of(node.func) in ("zip", "enumerate", "reversed", "range", "items", "values"):
+                fine = isinstance(parent, (ast.For, ast.comprehension)) and parent.iter is node
+                fine = fine or isinstance(parent, ast.Call) and name_of(parent.func) in ("list", "tuple", "reversed", "sum")
+                self.assertTrue(fine, (file, node.lineno))
+
+    def test_l23_what_is_iterated_is_not_changed(self):
+        changing = "append extend insert pop remove clear reverse setdefault update".split()
+        for file, node in walk_all(ast.For):
+            inner = [part for row in node.body for part in ast.walk(row)]
+            names = {ast.unparse(part) for part in ast.walk(node.iter) if isinstance(part, (ast.Name, ast.Attribute))}
+            for part in inner:
+                if isinstance(part, ast.Call) and isinstance(part.func, ast.Attribute) and part.func.attr in changing:
+                    self.assertNotIn(ast.unparse(part.func.value), names, (file, part.lineno))
+                if isinstance(part, ast.Subscript) and not isinstance(part.ctx, ast.Load):
+                    self.assertNotIn(ast.unparse(part.value), names, (file, part.lineno))
+
+
+class ValuesTest(unittest.TestCase):
+
+    def test_l5_no_other_sums_in_place(self):
+        for file, node in walk_all(ast.AugAssign):
+            self.assertIsInstance(node.target, ast.Name, (file, node.lineno))
+            self.assertIsInstance(node.value, ast.Constant, (file, node.lineno))
+
+    def test_l5_l25_orders(self):
+        for file, node in walk_all(ast.Call):
+            self.assertNotEqual(name_of(node.func), "sort", (file, node.lineno))
+            if isinstance(node.func, ast.Name) and node.func.id in ("sorted", "min", "max"):
+                plain = [part for part in node.args if isinstance(part, ast.Constant)]
+                plain += [part for part in node.args if isinstance(part, ast.Call) and name_of(part.func) == "len"]
+                self.assertTrue(plain, (file, node.lineno))
+
+    def test_l24_sets(self):
+        sets = [entry for entry in with_parents((ast.Set, ast.SetComp))]
+        sets += [entry for entry in with_parents(ast.Call) if name_of(entry[1].func) in ("set", "frozenset")]
+        for file, node, parent in sets:
+            fine = isinstance(parent, (ast.Compare, ast.Assign))
+            fine = fine or isinstance(parent, ast.Call) and name_of(parent.func) in ("len", "sorted")
+            self.assertTrue(fine, (file, node.lineno))
+
+    def test_l19_errors(self):
+        own = [node.name for _, node in classes()]
+        for file, node in walk_all(ast.ExceptHandler):
+            caught = node.type.elts if isinstance(node.type, ast.Tuple) else [node.type]
+            for one in caught:
+                self.assertIn(name_of(one), [*own, "KeyError", "ZeroDivisionError"], (file, node.lineno))
+        for file, node in walk_all(ast.Raise):
+            if node.exc is not None:
+                self.assertIsInstance(node.exc, ast.Call, (file, node.lineno))
+                self.assertIn(name_of(node.exc.func), [*own, "TypeError"], (file, node.lineno))
+
+    def test_l5_names_of_not_implemented(self):
+        for file, _, parent in [entry for entry in with_parents(ast.Name) if entry[1].id == "NotImplemented"]:
+            self.assertIsInstance(parent, ast.Return, file)
+
+    def test_l15_lists_of_modules_are_only_read(self):
+        fixed = [name for file in FILES for name in defined_in(tree_of(file)) if name.isupper()]
+        for file, node, parent in with_parents(ast.Name):
+            if node.id in fixed and isinstance(parent, ast.Attribute):
+                self.assertIn(parent.attr, ["items", "keys", "values", "get", "index", "count"], (file, node.lineno))
+            if node.id in fixed and isinstance(parent, ast.Subscript):
+                self.assertIsInstance(parent.ctx, ast.Load, (file, node.lineno))
+
+    def test_l7_stars(self):
+        for file, node, parent in with_parents(ast.Starred):
+            if isinstance(parent, ast.Call):
+                self.assertIsInstance(node.value, (ast.Name, ast.Attribute), (file, node.lineno))
+        for file, node in walk_all(ast.Call):
+            if [part for part in node.keywords if part.arg is None]:
+                self.assertEqual((len(node.keywords), node.args), (1, []), (file, node.lineno))
+
+    def test_l7_f_strings(self):
+        for file, node in walk_all(ast.FormattedValue):
+            self.assertIsNone(node.format_spec, (file, node.lineno))
+            self.assertIn(node.conversion, [-1, ord("r"), ord("s")], (file, node.lineno))
+
+    def test_l12_blank_names_are_not_read(self):
+        for file, node in walk_all(ast.Name):
+            self.assertFalse(node.id == "_" and isinstance(node.ctx, ast.Load), (file, node.lineno))
+
+
 if __name__ == "__main__":
     unittest.main()
