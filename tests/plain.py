@@ -190,3 +190,26 @@ def plain_faults(program, deep):
                     if plain_can_ask(other, closed) and outcome(other.name, closed) != early:
                         found.append(("early", package.name, question, (), other.name, closing))
     return found
+
+
+def plain_put_in(tree, answers):
+    """A tree with answers in the place of told wants."""
+    name, number, parts = tree
+    return answers[number] if name == "" else (name, number, tuple([plain_put_in(part, answers) for part in parts]))
+
+
+def plain_is_early(program, name, question, told, other, closing):
+    """[17], the fault of the kind early, for values of the right kinds."""
+    book = program.book
+    early = outcome_of(View(book, program[name]), question, told)
+    if question.is_closed or early is None or early[0] == CLASH:
+        return False
+    if name not in [package.name for package in program[other].seen()]:
+        return False
+    closed = [head.put(dict(closing)) for head in [question, *told]]
+    if not all([plain_can_ask(program[other], head) for head in closed]):
+        return False
+    outcomes = [outcome_of(View(book, program[other]), head) for head in closed]
+    if any([outcome is None or outcome[0] == CLASH for outcome in outcomes[1:]]):
+        return False
+    return outcomes[0] != plain_put_in(early, outcomes[1:])

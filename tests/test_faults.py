@@ -13,7 +13,7 @@ from soleinstances.programs import Program
 from soleinstances.terms import Term
 from tests.helping import NO_NAMES, Agreeing, Odd, base, lists, raised, texts
 from tests.making import Maker
-from tests.plain import plain_faults, plain_questions, plain_terms
+from tests.plain import plain_faults, plain_is_early, plain_questions, plain_terms
 
 NO_DEPTHS = [0, 4, -1, True, False, None, "1", 1.0, [1], (1, 2), 10 ** 30, Odd(), Agreeing()]
 
@@ -495,6 +495,28 @@ class IsFaultTest(unittest.TestCase):
         told = (Head.read("show(z)"),)
         self.check(program, True, ("early", "kinds", question, told, "user", (("x", four), ("z", four))))
         self.check(program, False, ("early", "kinds", question, told, "user", (("x", four), ("z", large))))
+
+    def test_told_wants_by_chance(self):
+        many = {True: 0, False: 0}
+        for number, book in enumerate([book for book in all_books() if book.early != "refused"] * 2):
+            maker = Maker(4000 + number, book)
+            program = maker.program(3, 6)
+            for _ in range(25):
+                name, other = [maker.chance.choice(program.names()) for _ in range(2)]
+                question = Head.read(maker.head(program[name], 3, "xyz"))
+                told = tuple([Head.read(text) for text in maker.told(program[name], 4)])
+                names = list(dict.fromkeys([x for head in [question, *told] for x in head.variables()]))
+                if question.is_closed or question.size > 12 or max([head.size for head in told], default=0) > 12:
+                    continue
+                closing = [(x, Term.read(maker.term(program[other], 3, "") or "Int")) for x in names]
+                maker.chance.shuffle(closing)
+                values = (name, question, told, other, tuple(closing))
+                expected = plain_is_early(program, *values)
+                self.assertIs(is_fault(program, ("early", *values)), expected, texts(values))
+                many[expected] += bool(told)
+                if book.look == "apart" and book.choose != "first" and book.owner in ("early", "first"):
+                    self.assertIs(expected, False)
+        self.assertGreater(min(many.values()), 20, many)
 
     def test_one_part_changed_of_faults_by_chance(self):
         checked = {"clash": 0, "part": 0, "early": 0}
