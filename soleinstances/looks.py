@@ -3,6 +3,7 @@
 from soleinstances.errors import Meets, NotOwner, Refused
 from soleinstances.headrows import are_alike, common_head, is_more_special
 from soleinstances.names import is_name
+from soleinstances.packages import seen_told
 
 
 def may_tell(book, package, number):
@@ -54,7 +55,7 @@ def look_at(book, package):
 def _ahead(book, package, number):
     """The list of the instances that one is held against, as they are told."""
     found = []
-    for name, index, instance in package.all_told():
+    for name, index, instance in seen_told(package):
         if name != package.name or (index < number and book.choose != "first"):
             found.append((name, index, instance))
     return found

@@ -3,7 +3,7 @@
 from soleinstances.errors import NotSeen, WrongPlaces
 from soleinstances.headrows import common_head, entries_of, is_larger
 from soleinstances.instances import wants_for
-from soleinstances.packages import check_entries
+from soleinstances.packages import check_entries, seen_told
 
 MOST_NAMES = 12
 MOST_DEPTH = 4
@@ -28,7 +28,7 @@ def can_ask(package, question):
 def told_by_form(package):
     """The dict from the forms of heads to the lists of tuples (package name, number, Instance) that have them."""
     told = {}
-    for entry in package.all_told():
+    for entry in seen_told(package):
         told.setdefault(entry[2].pattern[0], []).append(entry)
     return told
 

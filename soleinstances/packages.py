@@ -74,9 +74,8 @@ class Package:
 
     def all_told(self):
         """Tuples (package name, number, Instance) of all seen instances, in the order in which they are told."""
-        for package in self.seen():
-            for number, instance in enumerate(package.told_here):
-                yield (package.name, number, instance)
+        for entry in seen_told(self):
+            yield entry
 
     def check(self, head):
         """The Head, if all names that stand in it are seen and have their numbers of places."""
@@ -130,6 +129,11 @@ class Package:
 
     def __eq__(self, other):
         return isinstance(other, Package) and self.text == other.text
+
+
+def seen_told(package):
+    """The list of the tuples of all_told, for what an operator or a property runs: these run no generator."""
+    return [(seen.name, number, told) for seen in package.seen() for number, told in enumerate(seen.instances())]
 
 
 def all_seen(packages):

@@ -1,7 +1,9 @@
 """Programs, promise [16]."""
 
+import inspect
 import itertools
 import unittest
+import unittest.mock
 
 from soleinstances.books import Book, all_books
 from soleinstances.errors import (Clash, InvalidBook, InvalidOwned, InvalidProgram, InvalidQuestion, InvalidTold, Meets,
@@ -223,6 +225,34 @@ class SignsTest(unittest.TestCase):
         for value in [None, 5, "base", [base()], Book()]:
             self.assertRaises(TypeError, lambda: program | value)
             self.assertRaises(TypeError, lambda: value | program)
+
+
+class NoGeneratorTest(unittest.TestCase):
+    """What an operator, or a property, runs takes instances from lists."""
+
+    def run_all(self, program, package):
+        found = [program | package, package | program, program | program, program == program, package == package,
+                 program != package, "lists" in program, "show(Int)" in package, len(program), len(package), repr(program),
+                 repr(package), program["base"], package[0], program.book, program.view("base").book, package[0].head,
+                 package[0] == package[0], str(package[0])]
+        program |= package
+        return [*found, program]
+
+    def test_all_operators_and_properties(self):
+        for book in [Book(), Book.ladder(), Book(owner="anybody", choose="first")]:
+            program = Program(book, lists(), Package("user", lists(), constructors={"Own": 0}, instances=["show(Own)"]))
+            package = Package("z", lists(), constructors={"Set": 1}, instances=["show(Set(x)) if show(x)"])
+            expected = self.run_all(program, package)
+            with unittest.mock.patch.object(Package, "all_told", side_effect=AssertionError), \
+                    unittest.mock.patch.object(View, "matches", side_effect=AssertionError):
+                self.assertRaises(AssertionError, package.all_told)
+                self.assertEqual(self.run_all(program, package), expected)
+
+    def test_the_generator_stays_one(self):
+        found = lists().all_told()
+        self.assertTrue(inspect.isgenerator(found))
+        self.assertEqual([(*entry[:2], str(entry[2])) for entry in found],
+                         [("base", 0, "show(Int)"), ("lists", 0, "show(List(x)) if show(x)")])
 
 
 class UnderTest(unittest.TestCase):
