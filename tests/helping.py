@@ -26,6 +26,7 @@ NO_HEAD_TEXTS = [
     "show(List(x)))", "show[x]", "show(x,y", "show,x", "show)x(", "show(INT)", "show(List())",
 ]
 NO_INDEXES = [-1, -2, True, False, None, "0", "x", 0.0, 1.5, b"0", [0], (0, 1), slice(0, 1), 10 ** 30, Odd(), Agreeing()]
+NO_PLACES = [0, 4, -1, True, False, None, "1", "x", 1.0, 2.5, [1], (1, 2), {1: 2}, 10 ** 30, Odd(), Agreeing()]
 
 
 def raised(call, *args, **more):

@@ -17,11 +17,15 @@ def variables_in(text):
 
 
 class Maker:
-    """Makes packages by chance, all let by its book if it has one. The same number gives the same packages."""
+    """Makes packages by chance, all let by its book if it has one, with tasks of at most so many places.
 
-    def __init__(self, number, book=None):
+    The same number gives the same packages.
+    """
+
+    def __init__(self, number, book=None, places=3):
         self.chance = random.Random(number)
         self.book = book
+        self.places = places
 
     def any_book(self):
         return self.chance.choice(BOOKS).twin()
@@ -67,6 +71,7 @@ class Maker:
         tasks = {f"{name}{'st'[at]}": self.chance.choice([1, 1, 2, 3]) for at in range(self.chance.choice([0, 1]))}
         if not uses:
             kinds, tasks = {"Int": 0, "List": 1, **kinds}, {"show": 1, "join": 2}
+        tasks = {task: min(many, self.places) for task, many in tasks.items()}
         package = Package(name, *uses, constructors=kinds, tasks=tasks)
         for _ in range(3 * self.chance.randint(0, most)):
             try:
