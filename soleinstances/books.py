@@ -106,7 +106,7 @@ class Book:
             raise InvalidBook(None)
         words = {}
         for entry in changes:
-            if not _is_change(entry) or entry[0] in words:
+            if not is_change(entry) or entry[0] in words:
                 raise InvalidBook(entry)
             words[entry[0]] = entry[1]
         chosen = {part: words.get(part, self.chosen[part]) for part in SWITCHES}
@@ -153,7 +153,7 @@ def _is_word(part, value):
     return isinstance(value, str) and value in SWITCHES[part]
 
 
-def _is_change(value):
+def is_change(value):
     """Whether any value is a tuple of a switch and a word of it."""
     if not isinstance(value, tuple) or len(value) != 2:
         return False

@@ -34,7 +34,7 @@ def guessed_row(text):
     names = []
     parts = []
     holders = []
-    for word in _words(text):
+    for word in words_of(text):
         if word == "(" and names:
             holders.append(len(names) - 1)
             parts[-1] = 1
@@ -48,7 +48,7 @@ def guessed_row(text):
     return tuple(zip(names, parts))
 
 
-def _words(text):
+def words_of(text):
     """The list of the brackets and commas of a text and of what stands between them, in order."""
     spread = text.replace("(", " ( ").replace(",", " , ").replace(")", " ) ")
     return [word for word in spread.split(" ") if word != ""]

@@ -33,6 +33,8 @@ BARRED_NAMES = """attrgetter breakpoint builtins compile copyright credits delat
     importlib license locals methodcaller os quit type vars sys""".split()
 BARRED_WORDS = """typing typing_extensions enum Enum IntEnum StrEnum Flag IntFlag Generic Protocol ABC ABCMeta namedtuple
     NamedTuple TypedDict TYPE_CHECKING abstractmethod""".split()
+INTERFACE = """errors names terms uniting heads instances packages books looks views programs faults least tables later
+    additions changes sessions notes console""".split()
 STATEMENTS = (ast.Import, ast.Global, ast.AsyncFunctionDef, ast.AsyncFor, ast.AsyncWith, ast.Await, ast.TryStar)
 
 
@@ -381,7 +383,7 @@ class GeneratorsTest(unittest.TestCase):
         for file, node, parent in with_parents(ast.Call):
             if name_of(node.func) in ("zip", "enumerate", "reversed", "range", "items", "values"):
                 fine = isinstance(parent, (ast.For, ast.comprehension)) and parent.iter is node
-                fine = fine or isinstance(parent, ast.Call) and name_of(parent.func) in ("list", "tuple", "reversed", "sum")
+                fine = fine or isinstance(parent, ast.Call) and name_of(parent.func) in ("list", "tuple", "dict", "reversed", "sum")
                 self.assertTrue(fine, (file, node.lineno))
 
     def test_l23_what_is_iterated_is_not_changed(self):
@@ -398,10 +400,9 @@ class GeneratorsTest(unittest.TestCase):
 
 class ValuesTest(unittest.TestCase):
 
-    def test_l5_no_other_sums_in_place(self):
-        for file, node in walk_all(ast.AugAssign):
-            self.assertIsInstance(node.target, ast.Name, (file, node.lineno))
-            self.assertIsInstance(node.value, ast.Constant, (file, node.lineno))
+    def test_l5_no_sums_in_place(self):
+        """Beside `__iadd__` hardly any would be allowed."""
+        self.assertEqual(walk_all(ast.AugAssign), [])
 
     def test_l5_l25_orders(self):
         for file, node in walk_all(ast.Call):
@@ -458,6 +459,151 @@ class ValuesTest(unittest.TestCase):
     def test_l12_blank_names_are_not_read(self):
         for file, node in walk_all(ast.Name):
             self.assertFalse(node.id == "_" and isinstance(node.ctx, ast.Load), (file, node.lineno))
+
+
+def is_generator(node):
+    return bool([part for part in ast.walk(node) if isinstance(part, (ast.Yield, ast.YieldFrom))])
+
+
+def decorators_of(node):
+    return [ast.unparse(decorator) for decorator in node.decorator_list]
+
+
+class ReachTest(unittest.TestCase):
+    """What operators, properties and the like run: all that they call or read by name, and so on."""
+
+    def setUp(self):
+        # A property that is read does not run its setter.
+        self.by_name = {}
+        for _, node in functions():
+            if [name for name in decorators_of(node) if name.endswith(".setter")]:
+                continue
+            self.by_name.setdefault(node.name, []).append(node)
+        for _, node in classes():
+            made = [part for part in methods_of(node) if part.name == "__init__"]
+            self.by_name.setdefault(node.name, []).extend(made)
+
+    def starts(self):
+        """The operators that may change nothing, and the other methods of which this is asked."""
+        free = ["__init__", "__call__", "__enter__", "__exit__", "__iter__", "__setitem__"]
+        free += [f"__{name}__" for name in DOUBLE if name.startswith("i") and name[1:] in DOUBLE]
+        found = []
+        for _, node in functions():
+            named = node.name.startswith("__") and node.name not in free
+            if named or decorators_of(node) == ["property"]:
+                found.append(node)
+        return found
+
+    def reached(self, start):
+        """The list of the functions that one may run, itself among them."""
+        found = [start]
+        for node in found:
+            for part in ast.walk(node):
+                if isinstance(part, (ast.Name, ast.Attribute)) and isinstance(part.ctx, ast.Load):
+                    found.extend([other for other in self.by_name.get(name_of(part), []) if other not in found])
+        return found
+
+    def test_what_is_looked_at(self):
+        names = [node.name for node in self.starts()]
+        for name in ["__or__", "__ror__", "__eq__", "__len__", "__str__", "__repr__", "__bool__", "__contains__", "__getitem__",
+                     "book", "word", "paper", "session", "head", "owner"]:
+            self.assertIn(name, names)
+        for name in ["__iadd__", "__ior__", "__setitem__", "__init__"]:
+            self.assertNotIn(name, names)
+        joined = [node for node in self.starts() if node.name == "__or__"][0]
+        self.assertIn("look_at", [node.name for node in self.reached(joined)])
+        self.assertIn("met_by", [node.name for node in self.reached(joined)])
+
+    def test_l5_l28_no_generator(self):
+        for start in self.starts():
+            for node in self.reached(start):
+                self.assertFalse(is_generator(node), (start.name, node.name))
+
+    def test_l5_nothing_is_called_that_is_held_or_handed_in(self):
+        for start in self.starts():
+            for node in self.reached(start):
+                handed = [part.arg for part in node.args.args]
+                for part in ast.walk(node):
+                    if isinstance(part, ast.Call) and isinstance(part.func, ast.Name):
+                        self.assertNotIn(part.func.id, handed, (start.name, node.name))
+
+    def test_l5_no_attribute_is_changed(self):
+        """But those of an object that is being made, or was made by the function itself."""
+        made = [node.name for _, node in classes()]
+        for start in self.starts():
+            for node in [node for node in self.reached(start) if node.name != "__init__"]:
+                own = [part.targets[0].id for part in ast.walk(node) if isinstance(part, ast.Assign)
+                       and isinstance(part.targets[0], ast.Name) and isinstance(part.value, ast.Call)
+                       and name_of(part.value.func) in made]
+                for part in ast.walk(node):
+                    if isinstance(part, ast.Attribute) and isinstance(part.ctx, ast.Store):
+                        self.assertIn(name_of(part.value), own, (start.name, node.name))
+
+
+class StatementsTest(unittest.TestCase):
+
+    def test_l6_a_call_on_its_own(self):
+        for file, node in walk_all(ast.Expr):
+            fine = isinstance(node.value, (ast.Call, ast.Yield, ast.YieldFrom))
+            fine = fine or isinstance(node.value, ast.Constant) and isinstance(node.value.value, str)
+            self.assertTrue(fine, (file, node.lineno))
+
+    def test_l6_with(self):
+        found = walk_all(ast.With)
+        self.assertTrue(found)
+        names = [node.name for _, node in classes() if "__exit__" in [part.name for part in methods_of(node)]]
+        for file, node in found:
+            for item in node.items:
+                self.assertIsInstance(item.context_expr, ast.Call, (file, node.lineno))
+                self.assertIn(name_of(item.context_expr.func), names, (file, node.lineno))
+                self.assertIsInstance(item.optional_vars, (ast.Name, type(None)))
+
+    def test_l6_exit(self):
+        """Its rows take an attribute of self into a name, and set attributes of this name from those of self."""
+        for file, node in functions():
+            if node.name == "__exit__":
+                self.assertEqual([part.arg for part in node.args.args], ["self", "kind", "value", "trace"])
+                for row in [row for row in node.body if not isinstance(row, ast.Expr)]:
+                    self.assertRegex(ast.unparse(row), r"\A([a-z]+ = self|[a-z]+\.[a-z]+ = self)\.[a-z_]+\Z", file)
+
+    def test_l19_errors_that_are_caught(self):
+        """Their attributes are read, or they are the reason of another error."""
+        own = [node.name for _, node in classes()]
+        for file, node in walk_all(ast.ExceptHandler):
+            parents = parents_of(node)
+            for part in ast.walk(node):
+                if isinstance(part, ast.Name) and part.id == node.name:
+                    held = parents[part]
+                    fine = isinstance(held, ast.Attribute)
+                    fine = fine or isinstance(held, ast.Call) and name_of(held.func) in own and isinstance(parents[held], ast.Raise)
+                    self.assertTrue(fine, (file, node.lineno))
+            if node.name is not None:
+                around = [part for _, part in functions() if part.lineno <= node.lineno <= part.end_lineno]
+                self.assertNotIn(node.name, [part.arg for call in around for part in call.args.args], file)
+
+    def test_l2_imports_are_used(self):
+        for file in FILES:
+            tree = tree_of(file)
+            read = [node.id for node in ast.walk(tree) if isinstance(node, ast.Name)]
+            for node in imports_of(tree):
+                for alias in node.names:
+                    self.assertIn(alias.asname or alias.name, read, file)
+
+    def test_functions_that_are_no_part_of_the_interface_are_used(self):
+        read = [name_of(node) for _, node in walk_all((ast.Name, ast.Attribute))]
+        imported = [alias.name for _, node in walk_all(ast.ImportFrom) for alias in node.names]
+        for file, node in functions():
+            if node.name.startswith("_") and not node.name.startswith("__"):
+                self.assertIn(node.name, read, file)
+        for file in FILES:
+            for name in defined_in(tree_of(file)):
+                if file.stem not in INTERFACE:
+                    self.assertIn(name, imported + read, file)
+
+    def test_all_have_docstrings(self):
+        for file, node in functions():
+            if not node.name.startswith("__") and "setter" not in "".join(decorators_of(node)):
+                self.assertTrue(ast.get_docstring(node), (file, node.name))
 
 
 if __name__ == "__main__":

@@ -7,18 +7,27 @@ import unittest
 HERE = pathlib.Path(__file__).resolve().parent
 
 
+def run(text, name):
+    """Runs the examples of a text, which begin anew; returns how many there are, and how many of them failed."""
+    runner = doctest.DocTestRunner()
+    found = runner.run(doctest.DocTestParser().get_doctest(text, {}, name, name, 0))
+    return found.attempted, found.failed
+
+
 class ExamplesTest(unittest.TestCase):
 
-    def check(self, file):
-        found = doctest.testfile(str(file), module_relative=False)
-        self.assertEqual(found.failed, 0)
-        self.assertGreater(found.attempted, 10)
-
     def test_readme(self):
-        self.check(HERE.parent / "README.md")
+        many, failed = run((HERE.parent / "README.md").read_text(encoding="utf-8"), "README.md")
+        self.assertEqual(failed, 0)
+        self.assertGreater(many, 30)
 
     def test_document(self):
-        self.check(HERE / "examples.txt")
+        parts = (HERE / "examples.txt").read_text(encoding="utf-8").split("\n----\n")
+        self.assertEqual(len(parts), 15)
+        for at, part in enumerate(parts):
+            many, failed = run(part, f"examples.txt, part {at}")
+            self.assertEqual(failed, 0)
+            self.assertGreater(many, 1)
 
 
 if __name__ == "__main__":
