@@ -5,14 +5,16 @@ import unittest
 
 from soleinstances import tables as module
 from soleinstances.books import SWITCHES, Book, all_books
-from soleinstances.errors import InvalidBook, InvalidPlaces
-from soleinstances.faults import is_fault
+from soleinstances.errors import InvalidBook, InvalidPlaces, TooMany
+from soleinstances.faults import faults, is_fault
 from soleinstances.heads import Head
 from soleinstances.least import least_program
 from soleinstances.packages import Package
 from soleinstances.programs import Program
 from soleinstances.tables import Verdict, apart_at, is_sound_paper, judge, reason_of, shapes, sound_paper
+from soleinstances.terms import Term
 from tests.helping import NO_NAMES, NO_PLACES, Agreeing, Odd, base, raised
+from tests.making import Maker
 from tests.plain import plain_may_tell
 
 WORDS = ("own", "seen", "any")
@@ -283,6 +285,39 @@ class PaperTest(unittest.TestCase):
                 self.assertEqual(raised(sound_paper, book, value), (InvalidPlaces, {"value": value}))
                 self.assertEqual(raised(judge, book, value), (InvalidPlaces, {"value": value}))
                 self.assertEqual(raised(is_sound_paper, book, value, None), (InvalidPlaces, {"value": value}))
+
+
+class SoundTest(unittest.TestCase):
+    """[3] (c) and (e): under a book that is told to be sound no program has a fault."""
+
+    def test_by_chance(self):
+        looked_at = 0
+        for number, (book, places) in enumerate(ALL):
+            if sound_paper(book, places) is None:
+                continue
+            for deep in [1, 2]:
+                program = Maker(11000 + 2 * number + deep, book, places).program(6 - 2 * deep, 5)
+                try:
+                    self.assertEqual(list(faults(program, deep)), [], (book, places))
+                except TooMany:
+                    continue
+                looked_at += program.many_instances() > 5
+        self.assertGreater(looked_at, 60)
+
+    def test_early_faults_with_told_wants(self):
+        asked = 0
+        for number, book in enumerate([book for book in all_books() if judge(book) and book.early != "refused"] * 3):
+            maker = Maker(12000 + number, book)
+            program = maker.program(3, 6)
+            for _ in range(15):
+                name, other = [maker.chance.choice(program.names()) for _ in range(2)]
+                question, told = maker.head(program[name], 2), tuple([Head.read(text) for text in maker.told(program[name], 3)])
+                heads = [Head.read(question), *told]
+                names = list(dict.fromkeys([x for head in heads for x in head.variables()]))
+                closing = tuple([(x, Term.read(maker.term(program[other], 2, "") or "Int")) for x in names])
+                self.assertIs(is_fault(program, ("early", name, heads[0], told, other, closing)), False)
+                asked += heads[0].size > 0 and not heads[0].is_closed
+        self.assertGreater(asked, 500)
 
 
 class VerdictTest(unittest.TestCase):
